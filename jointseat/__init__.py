@@ -1,0 +1,1 @@
+"""Jointseat: one log over houses while who votes is changed."""
