@@ -39,6 +39,16 @@ def plain_standing(standing):
     return tuple([tuple(part) for part in standing])
 
 
+def plain_sets(sets):
+    """Copy sets that may have been handed in as lists to ones of tuples."""
+    return tuple([plain_standing(standing) for standing in sets])
+
+
+def members(sets):
+    """List the houses that are somewhere in the sets, rising."""
+    return sorted({house for standing in sets for part in standing for house in part})
+
+
 def who_votes(sets):
     """List the houses that vote in any standing of the sets, rising."""
     return sorted({house for standing in sets for part in standing[:2] for house in part})
@@ -60,26 +70,86 @@ def is_quorum(sets, group):
 def _is_quorum_of_one(standing, group):
     voters = [house for house in standing[0] if house in group]
     witnesses = [house for house in standing[1] if house in group]
-    many = len(standing[0]) + len(standing[1])
-    return len(voters) > 0 and 2 * (len(voters) + len(witnesses)) > many
+    return _is_enough(len(voters), len(witnesses), len(standing[0]) + len(standing[1]))
+
+
+def _is_enough(voters, witnesses, votes):
+    """Tell whether so many voters and witnesses are a quorum where so many houses vote."""
+    return voters > 0 and 2 * (voters + witnesses) > votes
 
 
 def least_quorums(sets):
     """List the quorums from which no house can be left out, by order as lists."""
+    kinds = _kinds(sets)
     found = []
-    short = [[]]
+    for counts in _least_counts(sets, kinds):
+        groups = [[]]
+        for houses, many in zip(kinds.values(), counts):
+            picks = _picks(houses, many)
+            groups = [[*group, *pick] for group in groups for pick in picks]
+        found.extend([sorted(group) for group in groups])
+    return sorted(found)
+
+
+def _kinds(sets):
+    """List the houses that vote by their seats in the standings, as signs: those of a kind count alike."""
+    kinds = {}
     for house in who_votes(sets):
-        grown = [[*group, house] for group in short]
-        quorate = [is_quorum(sets, group) for group in grown]
+        seats = "".join([_sign(standing, house) for standing in sets])
+        kinds.setdefault(seats, []).append(house)
+    return kinds
+
+
+def _sign(standing, house):
+    if house in standing[0]:
+        return "v"
+    return "w" if house in standing[1] else "-"
+
+
+def _picks(houses, many):
+    """List all groups of so many of the houses."""
+    groups = [[]]
+    for house in houses:
+        groups = [*groups, *[[*group, house] for group in groups if len(group) < many]]
+    return [group for group in groups if len(group) == many]
+
+
+def _least_counts(sets, kinds):
+    """List how many houses of each kind make a least quorum."""
+    tallies = _tallies(sets, kinds)
+    found = []
+    short = [[0] * len(kinds)]
+    for place, houses in enumerate(kinds.values()):
+        grown = [[*counts[:place], many, *counts[place + 1:]] for counts in short for many in range(len(houses) + 1)]
+        quorate = [_is_quorum_by(tallies, counts) for counts in grown]
         # What is a quorum grows no more: with another house it would not be a least one.
-        found.extend([group for group, full in zip(grown, quorate) if full])
-        short.extend([group for group, full in zip(grown, quorate) if not full])
-    return sorted([group for group in found if _needs_all(sets, group)])
+        found.extend([counts for counts, full in zip(grown, quorate) if full])
+        short = [counts for counts, full in zip(grown, quorate) if not full]
+    return [counts for counts in found if _needs_all(tallies, counts)]
 
 
-def _needs_all(sets, group):
-    for house in group:
-        if is_quorum(sets, [other for other in group if other != house]):
+def _tallies(sets, kinds):
+    """List by standing: how many vote in it, and the places of the kinds of its voters and its witnesses."""
+    tallies = []
+    for place, standing in enumerate(sets):
+        signs = [seats[place] for seats in kinds]
+        voters = [kind for kind, sign in enumerate(signs) if sign == "v"]
+        witnesses = [kind for kind, sign in enumerate(signs) if sign == "w"]
+        tallies.append((len(standing[0]) + len(standing[1]), voters, witnesses))
+    return tallies
+
+
+def _is_quorum_by(tallies, counts):
+    for votes, voters, witnesses in tallies:
+        many = sum([counts[kind] for kind in voters])
+        if not _is_enough(many, sum([counts[kind] for kind in witnesses]), votes):
+            return False
+    return True
+
+
+def _needs_all(tallies, counts):
+    for place, many in enumerate(counts):
+        if many > 0 and _is_quorum_by(tallies, [*counts[:place], many - 1, *counts[place + 1:]]):
             return False
     return True
 

@@ -87,3 +87,28 @@ def refusal_of(deed, *handed, **named):
     except Exception as error:
         return error
     return None
+
+
+def as_tuples(thing):
+    """The same thing with a tuple in the place of each list."""
+    return tuple(as_tuples(part) for part in thing) if isinstance(thing, (tuple, list)) else thing
+
+
+def some_what(chance):
+    """What an entry may be of, by chance."""
+    word = chance.choice(["none", "number", "number", "number", "sets", "kept"])
+    if word == "number":
+        return ("number", chance.choice([0, 1, 7, -7, 10 ** 29, -(10 ** 30) + 1, chance.randint(-99, 99)]))
+    if word == "sets":
+        return ("sets", tuple(some_standing(chance) for _ in range(chance.randint(1, 2))))
+    return (word,)
+
+
+def some_log(chance, size):
+    """A log by chance."""
+    term = 1
+    log = []
+    for _ in range(size):
+        term += chance.choice([0, 0, 0, 1, 2])
+        log.append((term, some_what(chance)))
+    return log
