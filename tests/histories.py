@@ -90,10 +90,12 @@ class Judge:
         self.sights = [net.sight(house) for house in HOUSES]
         self.strict_misses = 0
         self.deeds = 0
+        self.is_single = False
 
     def see(self, *houses):
         """See some houses, the only ones of which a deed may have changed something; else all."""
         self.deeds += 1
+        self.is_single = len(houses) > 0
         changed = [(house, self.sights[house], self.net.sight(house)) for house in houses or HOUSES]
         for house, _, new in changed:
             self.sights[house] = new
@@ -171,9 +173,10 @@ class Judge:
                       for place in range(settled, len(log) + 1)), "no quorum", house, settled)
             self.strict_misses += not slow_is_quorum(row[-1], group)
         if not old[2]:
-            ahead = len(log) - len(log[:len(old[4])])
-            claim(log[:len(old[4])] == old[4] or ahead > 1, "a lead without its log", house)
             claim((term, ("none",)) in log, "a lead without its entry", house)
+            # Behind calm rounds the house may have been told of others' entries as well.
+            many = len(old[4])
+            claim(not self.is_single or log[:many + 1] == old[4] + [(term, ("none",))], "a lead without its log", house)
 
     def see_queue(self, sight):
         house, _, leads, _, log, settled = sight

@@ -1,11 +1,12 @@
 """Quorums of sets, and how those of two sets meet or miss (points 6 and 7)."""
 
+import time
 import unittest
 
 from jointseat.standings import is_quorum, least_quorums, missed, missed_shows
 
 from support import (STRANGERS, all_groups, as_lists, chance_of, first_as_list, form_of, slow_is_quorum,
-                     slow_least_quorums, slow_missed, some_sets)
+                     slow_least_quorums, slow_missed, slow_who_votes, some_sets)
 
 THREE = ((0, 1, 2), (), (3,))
 FOUR = ((0, 1, 2, 3), (), ())
@@ -167,6 +168,62 @@ class TestMissed(unittest.TestCase):
         second.clear()
         self.assertEqual((one, other), ([[[0, 1, 2], [], []]], [[[2, 3, 4], [], []]]))
         self.assertEqual(missed(one, other), ([0, 1], [2, 3]))
+
+
+class TestManyHouses(unittest.TestCase):
+    """Sets in which nearly all houses vote."""
+
+    twelve = (((0, 1, 2, 3), (8, 9, 10), ()), ((4, 5, 6, 7), (11,), ()))
+
+    def some_great_sets(self, seed, many):
+        """So many joint sets of each: those in which ten, eleven and twelve houses vote."""
+        chance = chance_of(seed)
+        found = {10: [], 11: [], 12: []}
+        while any(len(rows) < many for rows in found.values()):
+            sets = some_sets(chance, 2)[1]
+            votes = len(slow_who_votes(sets))
+            if votes >= 10 and len(found[votes]) < many:
+                found[votes].append(sets)
+        return found[10] + found[11] + found[12]
+
+    def test_twelve_that_vote(self):
+        told = least_quorums(self.twelve)
+        self.assertEqual(told, slow_least_quorums(self.twelve))
+        self.assertEqual((len(told), told[0], told[-1]), (350, [0, 1, 2, 3, 4, 5, 6], [3, 6, 7, 8, 9, 10, 11]))
+        self.assertIsNone(missed(self.twelve, self.twelve))
+        self.assertIsNone(missed(as_lists(self.twelve), first_as_list(self.twelve)))
+
+    def test_drawn_sets_against_going_over_all_groups(self):
+        sets = self.some_great_sets(6, 8)
+        sets.extend([one[:1] for one in sets] + [(one[0], one[0]) for one in sets[:3]])
+        for place, one in enumerate(sets):
+            handed = (one, as_lists(one), first_as_list(one))[place % 3]
+            self.assertEqual(least_quorums(handed), slow_least_quorums(one), one)
+
+    def test_drawn_pairs_against_going_over_all_pairs(self):
+        sets = self.some_great_sets(7, 4)
+        seen = {True: 0, False: 0}
+        for place, one in enumerate(sets):
+            for other in (one, sets[place - 1], one[1:], sets[place - 1][:1]):
+                for a, b in ((one, other), (other, one)):
+                    told = missed(as_lists(a), first_as_list(b))
+                    self.assertEqual(told, slow_missed(a, b), (a, b))
+                    seen[told is None] += 1
+        self.assertGreater(min(seen.values()), 10)
+
+    def test_not_by_going_over_all_groups(self):
+        """Held against the plain reckoning on the same machine, so that a slow one fails nothing."""
+        def least_time(deed):
+            times = []
+            for _ in range(5):
+                begin = time.perf_counter()
+                deed()
+                times.append(time.perf_counter() - begin)
+            return min(times)
+
+        plain = least_time(lambda: slow_least_quorums(self.twelve))
+        self.assertLess(8 * least_time(lambda: missed(self.twelve, self.twelve)), plain)
+        self.assertLess(16 * least_time(lambda: least_quorums(self.twelve)), plain)
 
 
 class TestMissedShows(unittest.TestCase):
