@@ -16,11 +16,11 @@ class TestHand(unittest.TestCase):
         before = [net.sight(house) for house in HOUSES]
         for to in [leader, 3, 4, 7, 8, 9, 11, *STRANGERS, 10 ** 30 - 1, None, "1", "x", [], [1], (1,), True, False,
                    {}, 1.0, 2.0]:
-            self.assertIs(type(refusal_of(net.hand, leader, to)), NoChange, to)
+            refusal = refusal_of(net.hand, leader, to)
+            self.assertEqual((type(refusal), refusal.at), (NoChange, None), to)
             for house in (3, 8, 11, next(house for house in range(3) if house != leader)):
                 self.assertIs(type(refusal_of(net.hand, house, to)), NoLead, to)
             self.assertIs(type(refusal_of(net.hand, 12, to)), NoHouse, to)
-        self.assertIsNone(refusal_of(net.hand, leader, 1).at if refusal_of(net.hand, leader, 1) else None)
         self.assertEqual([net.sight(house) for house in HOUSES], before)
 
     def test_a_refused_hand_leaves_the_lead(self):
@@ -115,8 +115,7 @@ class TestHand(unittest.TestCase):
 
     def test_a_hand_does_not_outlive_the_lead(self):
         net, leader = led_net(THREE)
-        heir, other = [house for house in range(3) if house != leader]
-        net.hand(leader, heir)
+        net.hand(leader, next(house for house in range(3) if house != leader))
         net.stop(leader)
         net.wake(leader)
         net.calm(60)
@@ -124,7 +123,6 @@ class TestHand(unittest.TestCase):
         term = net.sight(now)[3]
         net.calm(60)
         self.assertEqual((leader_of(net), net.sight(now)[3]), (now, term))
-        self.assertIn(other, range(3))
 
     def test_to_one_whose_log_was_behind(self):
         """A house that has just come to lead doesn't know yet how far the others are."""
