@@ -3,19 +3,21 @@
 from jointseat.errors import NoChange
 from jointseat.standings import MOST_VOTES, has_room, lacks_room, missed, plain_standing, seat_of, who_votes
 
+# By order, as edits go by it.
+EDIT_WORDS = ("learner", "leave", "voter", "witness")
 # The part of a standing in which an edit seats its house; "leave" seats it nowhere.
 PART_OF_EDIT = {"voter": 0, "witness": 1, "learner": 2}
 
 
 def changed(standing, edit):
     """Tell the standing behind an edit."""
-    after = _behind(standing, edit)
+    after = behind(standing, edit)
     if after is None:
         raise NoChange()
     return after
 
 
-def _behind(standing, edit):
+def behind(standing, edit):
     """Tell the standing behind an edit, None where the edit can't be done."""
     word, house = edit
     if not _is_wanted(word, house, seat_of((standing,), house)):
@@ -55,7 +57,7 @@ def way_of(standing, edits):
     steps = []
     before = standing
     for place, edit in enumerate(edits):
-        after = _behind(before, edit)
+        after = behind(before, edit)
         if after is None:
             raise NoChange(place)
         steps.extend(way(before, after))

@@ -26,7 +26,8 @@ def kept_log(log):
     return [kept_entry(entry) for entry in log]
 
 
-def _are_alike(one, other):
+def are_alike(one, other):
+    """Tell whether two entries, tuples all through, are alike."""
     if one == other:
         return True
     words = (one[1][0], other[1][0])
@@ -36,12 +37,19 @@ def _are_alike(one, other):
 
 def alike_up_to(one, other):
     """Tell up to which place, each entry from the first on, two logs are alike."""
-    upto = 0
-    for mine, theirs in zip(one, other):
-        if not _are_alike(plain_entry(mine), plain_entry(theirs)):
-            return upto
-        upto += 1
-    return upto
+    return plain_alike_up_to(_plain_log(one), _plain_log(other))
+
+
+def _plain_log(log):
+    return [plain_entry(entry) for entry in log]
+
+
+def plain_alike_up_to(one, other):
+    """Tell up to which place two logs are alike, whose entries are tuples all through."""
+    for ahead, (mine, theirs) in enumerate(zip(one, other)):
+        if not are_alike(mine, theirs):
+            return ahead
+    return min(len(one), len(other))
 
 
 def as_new(one, other):
@@ -57,11 +65,13 @@ def _last_term(log):
 
 def agree(one, other):
     """Tell whether two logs are alike up to each place at which both have an entry of one term."""
-    shared = 0
-    for place, (mine, theirs) in enumerate(zip(one, other), start=1):
-        if mine[0] == theirs[0]:
-            shared = place
-    return alike_up_to(one, other) >= shared
+    return plain_agree(_plain_log(one), _plain_log(other))
+
+
+def plain_agree(one, other):
+    """Tell whether two logs agree, whose entries are tuples all through."""
+    upto = plain_alike_up_to(one, other)
+    return not any([mine[0] == theirs[0] for mine, theirs in zip(one[upto:], other[upto:])])
 
 
 def sets_by(log, first):

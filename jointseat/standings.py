@@ -80,9 +80,18 @@ def _is_enough(voters, witnesses, votes):
 
 def least_quorums(sets):
     """List the quorums from which no house can be left out, by order as lists."""
-    kinds = _kinds(sets)
+    kinds = kinds_of(sets)
+    tallies = tallies_of(sets, kinds)
+    return least_groups(kinds, lambda counts: is_quorum_by(tallies, counts))
+
+
+def least_groups(kinds, holds):
+    """List the least groups of which something holds by how many of each kind they have, by order as lists.
+
+    What holds of a group must hold of any that has more houses.
+    """
     found = []
-    for counts in _least_counts(sets, kinds):
+    for counts in _least_counts(kinds, holds):
         groups = [[]]
         for houses, many in zip(kinds.values(), counts):
             picks = _picks(houses, many)
@@ -91,7 +100,7 @@ def least_quorums(sets):
     return sorted(found)
 
 
-def _kinds(sets):
+def kinds_of(sets):
     """List the houses that vote by their seats in the standings, as signs: those of a kind count alike."""
     kinds = {}
     for house in who_votes(sets):
@@ -114,21 +123,27 @@ def _picks(houses, many):
     return [group for group in groups if len(group) == many]
 
 
-def _least_counts(sets, kinds):
-    """List how many houses of each kind make a least quorum."""
-    tallies = _tallies(sets, kinds)
+def _least_counts(kinds, holds):
+    """List how many houses of each kind make a least group."""
     found = []
     short = [[0] * len(kinds)]
     for place, houses in enumerate(kinds.values()):
         grown = [[*counts[:place], many, *counts[place + 1:]] for counts in short for many in range(len(houses) + 1)]
-        quorate = [_is_quorum_by(tallies, counts) for counts in grown]
-        # What is a quorum grows no more: with another house it would not be a least one.
-        found.extend([counts for counts, full in zip(grown, quorate) if full])
-        short = [counts for counts, full in zip(grown, quorate) if not full]
-    return [counts for counts in found if _needs_all(tallies, counts)]
+        full = [holds(counts) for counts in grown]
+        # What holds grows no more: with another house it would not be a least group.
+        found.extend([counts for counts, is_full in zip(grown, full) if is_full])
+        short = [counts for counts, is_full in zip(grown, full) if not is_full]
+    return [counts for counts in found if _needs_all(counts, holds)]
 
 
-def _tallies(sets, kinds):
+def _needs_all(counts, holds):
+    for place, many in enumerate(counts):
+        if many > 0 and holds([*counts[:place], many - 1, *counts[place + 1:]]):
+            return False
+    return True
+
+
+def tallies_of(sets, kinds):
     """List by standing: how many vote in it, and the places of the kinds of its voters and its witnesses."""
     tallies = []
     for place, standing in enumerate(sets):
@@ -139,17 +154,11 @@ def _tallies(sets, kinds):
     return tallies
 
 
-def _is_quorum_by(tallies, counts):
+def is_quorum_by(tallies, counts):
+    """Tell whether a group is a quorum of each standing, by how many houses of each kind it has."""
     for votes, voters, witnesses in tallies:
         many = sum([counts[kind] for kind in voters])
         if not _is_enough(many, sum([counts[kind] for kind in witnesses]), votes):
-            return False
-    return True
-
-
-def _needs_all(tallies, counts):
-    for place, many in enumerate(counts):
-        if many > 0 and _is_quorum_by(tallies, [*counts[:place], many - 1, *counts[place + 1:]]):
             return False
     return True
 

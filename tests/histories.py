@@ -91,6 +91,8 @@ class Judge:
         self.strict_misses = 0
         self.deeds = 0
         self.is_single = False
+        # A watch that is shown all sights behind each deed, where one is set.
+        self.watch = None
 
     def see(self, *houses):
         """See some houses, the only ones of which a deed may have changed something; else all."""
@@ -104,6 +106,9 @@ class Judge:
                 self.see_house(old, new)
             self.see_queue(new)
             self.see_reads(new)
+        if self.watch is not None:
+            breach = self.watch.show(self.sights)
+            claim(breach is None, "the watch", breach)
 
     def see_shown(self, sights):
         """See other sights of some houses."""

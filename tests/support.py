@@ -112,3 +112,25 @@ def some_log(chance, size):
         term += chance.choice([0, 0, 0, 1, 2])
         log.append((term, some_what(chance)))
     return log
+
+
+def slow_alike(one, other):
+    if one == other:
+        return True
+    kinds = {one[1][0], other[1][0]}
+    return one[0] == other[0] and kinds <= {"number", "kept"} and "kept" in kinds
+
+
+def slow_alike_up_to(one, other):
+    many = min(len(one), len(other))
+    return max(upto for upto in range(many + 1) if all(slow_alike(one[k], other[k]) for k in range(upto)))
+
+
+def slow_agree(one, other):
+    shared = [place for place in range(1, min(len(one), len(other)) + 1) if one[place - 1][0] == other[place - 1][0]]
+    return all(slow_alike(one[k], other[k]) for place in shared for k in range(place))
+
+
+def slow_sets_by(log, first):
+    found = [what[1] for _, what in log if what[0] == "sets"]
+    return found[-1] if found else (first,)

@@ -3,7 +3,7 @@
 import inspect
 import unittest
 
-from jointseat import changes, errors, house, logs, net, standings
+from jointseat import changes, desk, errors, house, logs, net, plans, standings, watch
 
 FUNCTIONS = [
     (standings, "standing_of", "(voters, *, witnesses=(), learners=())"),
@@ -23,6 +23,10 @@ FUNCTIONS = [
     (logs, "agree", "(one, other)"),
     (logs, "sets_by", "(log, first)"),
     (logs, "settled_by", "(log, first, *, term, places)"),
+    (plans, "bears", "(sets, asleep)"),
+    (plans, "all_bear", "(row, asleep)"),
+    (plans, "weak_groups", "(sets)"),
+    (plans, "fewest_edits", "(old, new, *, asleep=())"),
 ]
 METHODS = [
     (house, "House", {
@@ -36,6 +40,10 @@ METHODS = [
         "change": "(self, house, edit)", "letters": "(self)", "sight": "(self, house)", "sets": "(self, house)",
         "waiting": "(self, house)", "calm": "(self, rounds=1)", "read": "(self, house)", "reads": "(self, house)",
         "hand": "(self, house, to)", "on_trial": "(self, deed)", "twin": "(self)", "__len__": "(self)"}),
+    (watch, "Watch", {
+        "__init__": "(self, first)", "show": "(self, sights)", "settled": "(self)", "twin": "(self)",
+        "__eq__": "(self, other)"}),
+    (desk, "Desk", {"__init__": "(self)", "say": "(self, row)"}),
 ]
 
 

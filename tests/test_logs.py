@@ -4,8 +4,8 @@ import unittest
 
 from jointseat.logs import agree, alike_up_to, as_new, kept_log, sets_by, settled_by
 
-from support import (STRANGERS, as_lists, as_tuples, chance_of, first_as_list, form_of, slow_is_quorum, some_log,
-                     some_standing)
+from support import (STRANGERS, as_lists, as_tuples, chance_of, first_as_list, form_of, slow_agree, slow_alike_up_to,
+                     slow_is_quorum, slow_sets_by, some_log, some_standing)
 
 FIRST = ((0, 1, 2), (8,), (3,))
 JOINT = (FIRST, ((0, 1), (8,), (2, 3)))
@@ -14,34 +14,12 @@ EVERY_KIND = [(1, ("none",)), (1, ("number", 5)), (2, ("sets", JOINT)), (2, ("ke
               (4, ("sets", (FIRST,)))]
 
 
-def slow_alike(one, other):
-    if one == other:
-        return True
-    kinds = {one[1][0], other[1][0]}
-    return one[0] == other[0] and kinds <= {"number", "kept"} and "kept" in kinds
-
-
-def slow_alike_up_to(one, other):
-    many = min(len(one), len(other))
-    return max(upto for upto in range(many + 1) if all(slow_alike(one[k], other[k]) for k in range(upto)))
-
-
-def slow_agree(one, other):
-    shared = [place for place in range(1, min(len(one), len(other)) + 1) if one[place - 1][0] == other[place - 1][0]]
-    return all(slow_alike(one[k], other[k]) for place in shared for k in range(place))
-
-
 def slow_settled_by(log, first, term, places):
     sets = slow_sets_by(log, first)
     for place in range(len(log), 0, -1):
         if log[place - 1][0] == term and slow_is_quorum(sets, [house for house, far in places if far >= place]):
             return place
     return 0
-
-
-def slow_sets_by(log, first):
-    found = [what[1] for _, what in log if what[0] == "sets"]
-    return found[-1] if found else (first,)
 
 
 def near_log(chance, log):
