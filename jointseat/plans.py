@@ -59,7 +59,7 @@ def _many_edits(standing, goal, asleep):
     """Tell how many edits lead to the goal at the least."""
     seats = [(seat_of((standing,), house), seat_of((goal,), house)) for house in range(MOST_HOUSES)]
     many = sum([_many_of_house(now, then) for now, then in seats])
-    # One that sleeps gives its vote up for a while, and gets it back: two edits more.
+    # One of those that stay gives its vote up for a while, and gets it back: two edits more.
     return many + 2 if _is_stuck(standing, goal, asleep) else many
 
 
@@ -70,14 +70,10 @@ def _many_of_house(now, then):
 
 
 def _is_stuck(standing, goal, asleep):
-    """Tell whether houses awake must change places where there is room for no other vote, and none can go ahead."""
+    """Tell whether as many vote as may, and none of those that must go for others can go ahead of these."""
     votes = who_votes((standing,))
     wanted = who_votes((goal,))
-    if len(votes) < MOST_VOTES or len(wanted) < MOST_VOTES:
-        return False
     going = [house for house in votes if house not in wanted]
-    coming = [house for house in wanted if house not in votes]
-    # Where one that sleeps goes, it can go first, and where one comes, it can come last.
-    if len(going) == 0 or any([house in asleep for house in [*going, *coming]]):
+    if len(votes) < MOST_VOTES or len(going) == 0:
         return False
     return not any([bears((behind(standing, ("leave", house)),), asleep) for house in going])

@@ -108,6 +108,21 @@ class TestLanguage(unittest.TestCase):
         for path in FILES:
             self.assertEqual(set(re.findall(r"\w+", path.read_text(encoding="utf-8"))) & BARRED_WORDS, set(), path)
 
+    def test_what_a_class_with_its_own_sameness_bars(self):
+        self.assertEqual(nodes(ast.GeneratorExp), [])
+        for path, node in nodes(ast.Attribute):
+            self.assertNotEqual(node.attr, "sort", (path, node.lineno))
+        for path, node in nodes(ast.FunctionDef):
+            if node.name == "__eq__":
+                self.assertEqual([type(row) for row in node.body], [ast.Return], path)
+
+    def test_no_barred_name(self):
+        barred = re.compile(r"_(record|cold|outside|tuplegetter|written_out|member_names)[0-9_]*\Z"
+                            r"|_(wall|pe_|dcw_|enum_|cm_|twin_re_|lay_|law_|stub_|sre|WallAttr)")
+        for path, node in nodes((ast.Name, ast.Attribute, ast.FunctionDef, ast.arg)):
+            name = getattr(node, "id", None) or getattr(node, "attr", None) or getattr(node, "name", None) or node.arg
+            self.assertIsNone(barred.match(name), (path, name))
+
     def test_no_decorator_but_those_of_methods(self):
         for path, node in nodes((ast.FunctionDef, ast.ClassDef)):
             for decorator in node.decorator_list:
